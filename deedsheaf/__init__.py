@@ -1,0 +1,1 @@
+"""Deedsheaf: which deeds stand, on any day, as known on any day."""

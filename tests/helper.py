@@ -1,0 +1,173 @@
+"""Books, things of whatever kind, and a slow second telling of the document, for the tests."""
+
+import itertools
+import random
+
+FOLK = ((-50, None), (0, 9999), (10, 80), (-9999, None), (20, 21))
+ACT_WORDS = ("paid", "void", "undone")
+
+
+def deed(number, day=10, written=10, rests=(), witnesses=(), hand=0):
+    return (number, day, written, hand, "deed", 0, 1, rests, witnesses)
+
+
+def act(number, word, of, day=10, written=10, hand=0):
+    return (number, day, written, hand, word, of)
+
+
+def book(*entries):
+    return (FOLK, 14, entries)
+
+
+def deep(kind, levels=60):
+    thing = kind(())
+    for level in range(levels - 1):
+        thing = {"a": thing} if kind == dict else kind((thing,))
+    return thing
+
+
+# Things of whatever kind (point 4) that are no number of anything, no folk, no entry, no book and no paper.
+ODD_THINGS = [
+    True, False, None, "", "0", "1", "deed", "yes", "stands", "a" * 2000, [], (), {}, [0], (0,), {0: 0}, {1: "deed"},
+    [1], (1,), [[]], ((),), (None,), ("yes",), ("yes", 1), ("yes", 1, ()), ["yes", 1, ()], ("stands", 0, (), ()),
+    deep(list), deep(tuple), deep(dict), [0] * 8999, (0,) * 8999, {n: None for n in range(4000)},
+    10 ** 39, 10 ** 40 - 1, -(10 ** 40 - 1), -1,
+]
+NO_DAYS = ODD_THINGS + [10000, -9999, (5, 5), [5]]
+
+
+def changed_at(row, place, thing):
+    return row[:place] + (thing,) + row[place + 1:]
+
+
+def shuffled(sheaf, seed):
+    entries = list(sheaf[2])
+    random.Random(seed).shuffle(entries)
+    return (sheaf[0], sheaf[1], tuple(entries))
+
+
+def random_entry(chance, number, deeds, acts, last):
+    day, written = chance.randint(0, last), chance.randint(0, last)
+    word = chance.choice(("deed", "deed", "paid", "void", "void", "undone", "undone"))
+    if word == "undone" and acts:
+        return act(number, word, chance.choice(acts), day, written)
+    if word in ("paid", "void") and deeds:
+        return act(number, word, chance.choice(deeds), day, written)
+    rests = tuple(sorted(chance.sample(deeds, min(len(deeds), chance.randint(0, 2)))))
+    return deed(number, day, written, rests)
+
+
+def random_book(seed, most=9, last=6):
+    """A book of at most so many entries, all of whose days are from 0 to last."""
+    chance = random.Random(seed)
+    entries = []
+    for number in sorted(chance.sample(range(31), chance.randint(1, most))):
+        deeds = [entry[0] for entry in entries if entry[4] == "deed"]
+        acts = [entry[0] for entry in entries if entry[4] != "deed"]
+        entries.append(random_entry(chance, number, deeds, acts, last))
+    chance.shuffle(entries)
+    return book(*entries)
+
+
+def entry_of(sheaf, number):
+    return [entry for entry in sheaf[2] if entry[0] == number][0]
+
+
+def told_deeds(sheaf):
+    return sorted(entry[0] for entry in sheaf[2] if entry[4] == "deed")
+
+
+def told_acts(sheaf):
+    return sorted(entry[0] for entry in sheaf[2] if entry[4] in ACT_WORDS)
+
+
+def told_open(sheaf, number, d, k):
+    entry = entry_of(sheaf, number)
+    return entry[1] <= d and entry[2] <= k
+
+
+def acts_of_word(sheaf, words, number):
+    return sorted(entry[0] for entry in sheaf[2] if entry[4] in words and entry[5] == number)
+
+
+def open_of_word(sheaf, words, number, d, k):
+    return [n for n in acts_of_word(sheaf, words, number) if told_open(sheaf, n, d, k)]
+
+
+def told_force(sheaf, number, d, k):
+    undones = acts_of_word(sheaf, ("undone",), number)
+    return told_open(sheaf, number, d, k) and not any(told_force(sheaf, n, d, k) for n in undones)
+
+
+def told_standing(sheaf, number, d, k):
+    entry = entry_of(sheaf, number)
+    below = [told_standing(sheaf, rest, d, k) for rest in entry[7]]
+    rows = [
+        ("unknown", entry[2] > k),
+        ("ahead", entry[1] > d),
+        ("void", any(told_force(sheaf, n, d, k) for n in acts_of_word(sheaf, ("void",), number))),
+        ("fallen", any(word in ("unknown", "ahead", "void", "fallen") for word in below)),
+        ("paid", any(told_force(sheaf, n, d, k) for n in acts_of_word(sheaf, ("paid",), number))),
+        ("stands", True),
+    ]
+    return [word for word, so in rows if so][0]
+
+
+def choices(lists):
+    """All tuples with one of each list, the one of the first of each ahead of all others."""
+    return list(itertools.product(*lists))
+
+
+def joined(lists):
+    return [thing for row in lists for thing in row]
+
+
+def all_act_papers(sheaf, number, d, k):
+    """Every yes or no of an act, the one by the least numbers first; none of an act that is not open."""
+    if not told_open(sheaf, number, d, k):
+        return []
+    undones = open_of_word(sheaf, ("undone",), number, d, k)
+    if told_force(sheaf, number, d, k):
+        return [("yes", number, rows) for rows in choices(all_act_papers(sheaf, n, d, k) for n in undones)]
+    return [("no", number, yes) for yes in all_yeses(sheaf, undones, d, k)]
+
+
+def all_yeses(sheaf, numbers, d, k):
+    return joined(all_act_papers(sheaf, n, d, k) for n in numbers if told_force(sheaf, n, d, k))
+
+
+def all_whys(sheaf, number, d, k):
+    """Every why of a deed, the one by the least numbers first."""
+    word, rests = told_standing(sheaf, number, d, k), entry_of(sheaf, number)[7]
+    voids, paids = (open_of_word(sheaf, (act_word,), number, d, k) for act_word in ("void", "paid"))
+    if word in ("unknown", "ahead"):
+        return [(word, number)]
+    if word == "void":
+        return [(word, number, yes) for yes in all_yeses(sheaf, voids, d, k)]
+    if word == "fallen":
+        broken = [rest for rest in rests if told_standing(sheaf, rest, d, k) not in ("stands", "paid")]
+        return [(word, number, why) for why in joined(all_whys(sheaf, rest, d, k) for rest in broken)]
+    whys = choices(all_whys(sheaf, rest, d, k) for rest in rests)
+    if word == "stands":
+        nos = choices(all_act_papers(sheaf, n, d, k) for n in sorted(voids + paids))
+        return [(word, number, *both) for both in choices((nos, whys))]
+    nos = choices(all_act_papers(sheaf, n, d, k) for n in voids)
+    return [(word, number, *three) for three in choices((nos, whys, all_yeses(sheaf, paids, d, k)))]
+
+
+def twisted(paper):
+    """Things that come of a paper by making one place, of whatever depth, otherwise."""
+    if isinstance(paper, tuple):
+        yield list(paper)
+        yield paper + ((),)
+        yield paper[:-1]
+        yield paper[::-1]
+        yield {place: part for place, part in enumerate(paper)}
+        for place, part in enumerate(paper):
+            for other in twisted(part):
+                yield changed_at(paper, place, other)
+    elif isinstance(paper, int):
+        yield from (paper + 1, paper - 1, str(paper), None, True, False, [paper], (paper,), -paper, {})
+    else:
+        yield from ("yes", "no", "void", "paid", "fallen", "stands", "ahead", "unknown", "", paper + " ")
+        yield from (None, 0, [paper], (paper,), paper.upper())
