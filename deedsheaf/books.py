@@ -4,9 +4,11 @@
 NUMBER = 0
 DAY = 1
 WRITTEN = 2
+HAND = 3
 WORD = 4
 OF = 5
 RESTS = 7
+WITNESSES = 8
 
 ACT_WORDS = ("paid", "void", "undone")
 LAST_DAY = 9999
@@ -51,13 +53,16 @@ def is_folk(thing):
     return all([is_person(person) for person in thing])
 
 
+def is_rising(things):
+    """Whether in a row of things that can be compared each one is greater than the one ahead."""
+    return all([ahead < behind for ahead, behind in zip(things, things[1:])])
+
+
 def is_rising_below(thing, most, limit):
     """Whether a thing is a rising tuple of at most so many whole numbers from 0 on, each less than the limit."""
     if not isinstance(thing, tuple) or len(thing) > most:
         return False
-    if not all([is_within(part, 0, limit - 1) for part in thing]):
-        return False
-    return all([ahead < behind for ahead, behind in zip(thing, thing[1:])])
+    return all([is_within(part, 0, limit - 1) for part in thing]) and is_rising(thing)
 
 
 def is_deed_tail(folk, number, tail):

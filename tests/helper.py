@@ -2,6 +2,7 @@
 
 import itertools
 import random
+import sys
 
 FOLK = ((-50, None), (0, 9999), (10, 80), (-9999, None), (20, 21))
 ACT_WORDS = ("paid", "void", "undone")
@@ -171,3 +172,43 @@ def twisted(paper):
     else:
         yield from ("yes", "no", "void", "paid", "fallen", "stands", "ahead", "unknown", "", paper + " ")
         yield from (None, 0, [paper], (paper,), paper.upper())
+
+
+def stretched(sheaf, days):
+    """The book with each day and each written day moved to the place of that number in days."""
+    moved = tuple((entry[0], days[entry[1]], days[entry[2]]) + entry[3:] for entry in sheaf[2])
+    return (sheaf[0], sheaf[1], moved)
+
+
+def told_turns(words):
+    """The tuples (day, word) of day 0 and of each day that has another word than the day ahead."""
+    return [(day, word) for day, word in enumerate(words) if day == 0 or words[day - 1] != word]
+
+
+def less_one(sheaf, entry):
+    """The book without an entry, the others as they stand, whether that is a book or not."""
+    return (sheaf[0], sheaf[1], tuple(other for other in sheaf[2] if other != entry))
+
+
+def named_by(sheaf, number):
+    """The rising list of the numbers of the entries that name a number."""
+    rests = [entry[0] for entry in sheaf[2] if entry[4] == "deed" and number in entry[7]]
+    return sorted(rests + acts_of_word(sheaf, ACT_WORDS, number))
+
+
+def lines_run(tell, *asked):
+    """How many lines Python goes through, each time that it does, until the answer is told."""
+    many = 0
+
+    def seen(frame, event, told):
+        nonlocal many
+        many += event == "line"
+        return seen
+
+    before = sys.gettrace()
+    sys.settrace(seen)
+    try:
+        tell(*asked)
+    finally:
+        sys.settrace(before)
+    return many

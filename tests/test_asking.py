@@ -6,27 +6,52 @@ import itertools
 import unittest
 
 from deedsheaf.books import acts_of, deeds_of, is_book, is_entry, is_folk
-from deedsheaf.errors import NoAct, NoDay, NoDeed
+from deedsheaf.copies import first_way, parts_at, reaches_hold, reaches_of, says, ways_many
+from deedsheaf.courses import course_of, last_stand, learned_of
+from deedsheaf.errors import Missing, Named, NoAct, NoCopy, NoDay, NoDeed, NoDraft, NoEntry, NoForms, Twice
+from deedsheaf.folk import could_witness, faults_of, often_hands, turns_of
+from deedsheaf.late import late_of, parting_of, with_entry, without_entry
 from deedsheaf.reasons import act_paper, act_paper_holds, why_holds, why_of
 from deedsheaf.standing import all_standing, in_force, standing_of
 from tests.helper import (FOLK, NO_DAYS, ODD_THINGS, act, book, deed, random_book, shuffled, told_acts, told_deeds)
 
 # A deed of number 0 and an act of number 1, so that False and True would be taken for them by ==.
-SHEAF = book(deed(0), act(1, "void", 0), act(2, "undone", 1, 20), deed(3, rests=(0,)))
-RIGHT = {"book": SHEAF, "act": 1, "deed": 0, "d": 15, "k": 15, "thing": ("yes", 1, ()), "folk": FOLK}
-REFUSED = {"act": NoAct, "deed": NoDeed, "d": NoDay, "k": NoDay}
+SHEAF = book(deed(0, witnesses=(2, 4)), act(1, "void", 0, hand=1), act(2, "undone", 1, 20), deed(3, rests=(0,)))
+RIGHT = {
+    "book": SHEAF, "act": 1, "deed": 0, "d": 15, "k": 15, "thing": ("yes", 1, ()), "folk": FOLK,
+    "entry": act(4, "void", 3, 10, 12), "number": 3, "other": book(deed(0, 11)),
+    "forms": (("a", (("x",), ("x", "y"))),), "draft": ("a", "y"), "copy": ("x", "y"),
+}
+REFUSED = {
+    "act": NoAct, "deed": NoDeed, "d": NoDay, "k": NoDay, "entry": NoEntry, "number": Missing,
+    "forms": NoForms, "draft": NoDraft, "copy": NoCopy,
+}
+TEXTS = ("forms", "draft", "copy")
 INTERFACE = {
     is_folk: ("thing",), is_entry: ("folk", "thing"), is_book: ("thing",), deeds_of: ("book",), acts_of: ("book",),
     in_force: ("book", "act", "d", "k"), standing_of: ("book", "deed", "d", "k"), all_standing: ("book", "d", "k"),
     act_paper: ("book", "act", "d", "k"), why_of: ("book", "deed", "d", "k"),
     act_paper_holds: ("book", "act", "d", "k", "thing"), why_holds: ("book", "deed", "d", "k", "thing"),
+    course_of: ("book", "deed", "k"), learned_of: ("book", "deed", "d"), last_stand: ("book", "deed", "k"),
+    with_entry: ("book", "entry"), without_entry: ("book", "number"), parting_of: ("book", "other", "k"),
+    late_of: ("book", "entry", "k"), faults_of: ("book",), could_witness: ("book", "d"), turns_of: ("book",),
+    often_hands: ("book",), says: TEXTS, ways_many: TEXTS, first_way: TEXTS, reaches_of: TEXTS,
+    reaches_hold: (*TEXTS, "thing"), parts_at: TEXTS,
 }
-K_LEFT_OUT = (in_force, standing_of, all_standing, act_paper, why_of)
+K_LEFT_OUT = (in_force, standing_of, all_standing, act_paper, why_of, course_of, last_stand, parting_of, late_of)
+LISTS = (deeds_of, acts_of, course_of, learned_of, parting_of, late_of, faults_of, could_witness, turns_of,
+         often_hands, reaches_of)
+NO_TEXTS = [thing for thing in ODD_THINGS if thing not in ((), ("yes",))]
 WRONG = {
     "act": [*ODD_THINGS, 0, 3, 4, 30, 31],
     "deed": [*ODD_THINGS, 1, 2, 4, 30, 31],
     "d": NO_DAYS,
     "k": NO_DAYS,
+    "entry": ODD_THINGS,
+    "number": [*ODD_THINGS, 4, 30, 31],
+    "forms": NO_TEXTS,
+    "draft": NO_TEXTS,
+    "copy": NO_TEXTS,
 }
 
 
@@ -41,7 +66,9 @@ class Refusals(unittest.TestCase):
                     self.assertIs(type(caught.exception), REFUSED[name])
 
     def test_of_several_wrong_arguments_the_left_one_is_refused(self):
-        some = {"act": (True, [1], 0), "deed": (False, {}, 1), "d": (True, -1, [5]), "k": (None, 10000, {})}
+        some = {"act": (True, [1], 0), "deed": (False, {}, 1), "d": (True, -1, [5]), "k": (None, 10000, {}),
+                "entry": (None, [], deed(31)), "forms": (None, [], ("a",)), "draft": ("a", [], (1,)),
+                "copy": ({}, ["a"], (None,))}
         for tell, names in INTERFACE.items():
             checked = [name for name in names if name in some]
             for many in range(2, len(checked) + 1):
@@ -76,6 +103,10 @@ class Refusals(unittest.TestCase):
             self.assertIs(type(standing_of(SHEAF, 0, d, k)), str)
             self.assertEqual(sorted(all_standing(SHEAF, d, k)), [0, 3])
             self.assertEqual(why_of(SHEAF, 0, d, k)[1], 0)
+            self.assertEqual(course_of(SHEAF, 0, k)[0][0], 0)
+            self.assertEqual(learned_of(SHEAF, 0, d)[0], (0, "unknown"))
+            self.assertEqual(could_witness((FOLK, 0, ()), d), [0, 1, 3] if d == 0 else [0, 3])
+            self.assertEqual(parting_of(SHEAF, SHEAF, k), [])
 
     def test_an_empty_book_has_neither_deeds_nor_acts(self):
         for number in range(31):
@@ -85,7 +116,8 @@ class Refusals(unittest.TestCase):
                 in_force(book(), number, 5)
 
     def test_what_this_program_told_is_no_day_either(self):
-        told = [why_of(SHEAF, 3, 15), act_paper(SHEAF, 1, 15), all_standing(SHEAF, 15), deeds_of(SHEAF)]
+        told = [why_of(SHEAF, 3, 15), act_paper(SHEAF, 1, 15), all_standing(SHEAF, 15), deeds_of(SHEAF),
+                course_of(SHEAF, 0), turns_of(SHEAF), reaches_of(*[RIGHT[name] for name in TEXTS])]
         for thing in told:
             for tell, names in INTERFACE.items():
                 for name in [name for name in names if name in REFUSED]:
@@ -111,13 +143,23 @@ class Arguments(unittest.TestCase):
 
     def test_k_left_out_is_the_last_day(self):
         late = book(deed(0, 5, 9999), act(1, "void", 0, 5, 9999))
+        right = {**RIGHT, "book": late, "d": 5, "other": book(), "entry": act(2, "paid", 0, 5, 9999)}
         for tell in K_LEFT_OUT:
-            number = () if tell == all_standing else (1,) if tell in (in_force, act_paper) else (0,)
-            self.assertEqual(tell(late, *number, 5), tell(late, *number, 5, 9999))
+            asked = {name: right[name] for name in INTERFACE[tell] if name != "k"}
+            self.assertEqual(tell(**asked), tell(**asked, k=9999))
+            self.assertEqual(tell(*asked.values()), tell(*asked.values(), 9999))
         self.assertIs(in_force(late, 1, 5), True)
         self.assertIs(in_force(late, 1, 5, 9998), False)
         self.assertEqual(standing_of(late, 0, 5), "void")
         self.assertEqual(standing_of(late, 0, 5, 9998), "unknown")
+        self.assertEqual(course_of(late, 0), [(0, "ahead"), (5, "void")])
+        self.assertEqual(course_of(late, 0, 9998), [(0, "unknown")])
+        stood = book(deed(0, 5, 9999))
+        self.assertEqual((last_stand(stood, 0), last_stand(stood, 0, 9998)), (9999, None))
+        self.assertEqual(parting_of(stood, late), [(0, 5, "stands", "void")])
+        self.assertEqual(parting_of(stood, late, 9998), [])
+        self.assertEqual(late_of(stood, act(1, "paid", 0, 6, 9999)), [(0, 6, "stands", "paid")])
+        self.assertEqual(late_of(stood, act(1, "paid", 0, 6, 9999), 9998), [])
 
 
 class NothingChanged(unittest.TestCase):
@@ -152,6 +194,35 @@ class NothingChanged(unittest.TestCase):
         self.assertEqual(all_standing(SHEAF, 15), {0: "void", 3: "fallen"})
         self.assertEqual(standing_of(SHEAF, 0, 15), "void")
 
+    def test_a_told_list_is_the_askers_own(self):
+        for tell in LISTS:
+            asked = {name: RIGHT[name] for name in INTERFACE[tell]}
+            told = tell(**asked)
+            self.assertIs(type(told), list)
+            self.assertNotEqual(told, [], tell)
+            kept = list(told)
+            told.append(kept[0])
+            told[0] = None
+            self.assertEqual(tell(**asked), kept)
+            told.clear()
+            self.assertEqual(tell(**asked), kept)
+
+    def test_told_reaches_that_were_changed_hold_no_more(self):
+        asked = {name: RIGHT[name] for name in TEXTS}
+        told = reaches_of(**asked)
+        self.assertIs(reaches_hold(**asked, thing=told), True)
+        told[0] = ()
+        self.assertIs(reaches_hold(**asked, thing=told), False)
+        self.assertIs(reaches_hold(**asked, thing=reaches_of(**asked)), True)
+
+    def test_a_book_stays_as_it_is_when_refused_and_when_not(self):
+        kept = repr(SHEAF)
+        for error, tell, more in ((Twice, with_entry, deed(3)), (Named, without_entry, 0), (Missing, without_entry, 9)):
+            with self.assertRaises(error):
+                tell(SHEAF, more)
+        self.assertEqual(without_entry(with_entry(SHEAF, RIGHT["entry"]), 4), SHEAF)
+        self.assertEqual(repr(SHEAF), kept)
+
     def test_a_list_within_a_thing_changed_later_changes_nothing(self):
         rows = []
         thing = ("yes", 1, rows)
@@ -164,6 +235,7 @@ class NothingChanged(unittest.TestCase):
 def all_told(sheaf, deeds, acts, d, k):
     """All that is told of these deeds and acts."""
     told = [(n, standing_of(sheaf, n, d, k), why_of(sheaf, n, d, k)) for n in deeds]
+    told.extend(all_standing(sheaf, d, k)[n] for n in deeds)
     for n in acts:
         told.append((n, in_force(sheaf, n, d, k)))
         try:
