@@ -36,6 +36,11 @@ def is_day(thing):
     return is_within(thing, 0, LAST_DAY)
 
 
+def is_age(thing):
+    """Whether a thing is an age."""
+    return is_within(thing, 0, LAST_DAY)
+
+
 def is_person(thing):
     """Whether a thing is a person."""
     if not isinstance(thing, tuple) or len(thing) != 2:
@@ -113,7 +118,7 @@ def is_book(thing):
     if not isinstance(thing, tuple) or len(thing) != 3:
         return False
     folk, age, entries = thing
-    if not is_folk(folk) or not is_within(age, 0, LAST_DAY):
+    if not is_folk(folk) or not is_age(age):
         return False
     if not isinstance(entries, tuple) or len(entries) > MOST_ENTRIES:
         return False

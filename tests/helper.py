@@ -1,5 +1,6 @@
 """Books, things of whatever kind, and a slow second telling of the document, for the tests."""
 
+import functools
 import itertools
 import random
 import sys
@@ -212,3 +213,106 @@ def lines_run(tell, *asked):
     finally:
         sys.settrace(before)
     return many
+
+
+def orders_of(size):
+    """All orders of so many deeds, the first one first."""
+    return list(itertools.permutations(range(size)))
+
+
+@functools.lru_cache(maxsize=None)
+def orders_with(size, copy_word):
+    """The set of the orders in which one word of copies is so."""
+    word, deed_told, other = copy_word
+    tellings = {
+        "at": lambda order: order[other] == deed_told,
+        "not": lambda order: order[other] != deed_told,
+        "ahead": lambda order: order.index(deed_told) < order.index(other),
+    }
+    return frozenset(order for order in orders_of(size) if tellings[word](order))
+
+
+def told_orders(size, words):
+    """All orders that fit, the first one first, found by going through all orders."""
+    return [order for order in orders_of(size) if all(order in orders_with(size, word) for word in words)]
+
+
+def told_clashes(size, words):
+    """All clashes, those of fewer places first, and of as many the first one first."""
+    def fits(places):
+        sets = [orders_with(size, words[place]) for place in places]
+        return not sets or len(frozenset.intersection(*sets)) > 0
+
+    rows = [row for many in range(len(words) + 1) for row in itertools.combinations(range(len(words)), many)]
+    return [row for row in rows
+            if not fits(row) and all(fits([other for other in row if other != place]) for place in row)]
+
+
+def all_copy_words(size):
+    """All words of copies of a book of so many pages."""
+    pairs = list(itertools.product(range(size), repeat=2))
+    placed = [(word, *pair) for word in ("at", "not") for pair in pairs]
+    return placed + [("ahead", *pair) for pair in pairs if pair[0] != pair[1]]
+
+
+def random_words(seed, size, most=8):
+    """Words of copies; of some seeds with "not" and "ahead" alone, so that more of them fit."""
+    chance = random.Random(seed)
+    words = [word for word in all_copy_words(size) if seed % 3 or word[0] != "at"]
+    return tuple(chance.choice(words) for place in range(chance.randint(0, most)))
+
+
+def random_person(chance):
+    born = chance.choice((-9999, -1, 0, chance.randint(-9999, 9998)))
+    return (born, chance.choice((None, born + 1, 9999, chance.randint(born + 1, 9999))))
+
+
+def dressed(chance, many, entry):
+    """The entry by some hand, and with some of so many persons."""
+    entry = changed_at(entry, 3, chance.randint(0, 3))
+    if entry[4] != "deed":
+        return entry
+    giver, taker, *others = chance.sample(range(many), many)
+    witnesses = tuple(sorted(others[:chance.randint(0, 3)]))
+    return entry[:5] + (giver, taker, entry[7], witnesses)
+
+
+def rich_book(seed, most=16, last=9999):
+    """A book of some folk, age, hands and witnesses."""
+    chance = random.Random(seed)
+    folk = tuple(random_person(chance) for place in range(chance.randint(2, 6)))
+    entries = tuple(dressed(chance, len(folk), entry) for entry in random_book(seed, most, last)[2])
+    return (folk, chance.choice((0, 14, 9999)), entries)
+
+
+def rising(sheaf):
+    """The book with its entries by their numbers."""
+    return (sheaf[0], sheaf[1], tuple(sorted(sheaf[2])))
+
+
+def told_entry_text(entry):
+    parts = [str(part) for part in entry[:6]]
+    if entry[4] == "deed":
+        lists = [",".join(str(number) for number in numbers) or "-" for numbers in entry[7:]]
+        parts = [*parts, str(entry[6]), *lists]
+    return " ".join(parts)
+
+
+def told_text(sheaf):
+    """The text of a book."""
+    folk = [f" {born}:{'-' if died is None else died}" for born, died in sheaf[0]]
+    rows = ["folk" + "".join(folk), f"age {sheaf[1]}", *[told_entry_text(entry) for entry in rising(sheaf)[2]]]
+    return "\n".join(rows)
+
+
+def text_changed(chance, text, signs):
+    """The text with one sign more, less, or another one, or with two pieces of it turned about."""
+    at, to = sorted(chance.choices(range(len(text) + 1), k=2))
+    way = chance.randint(0, 3)
+    if way == 0:
+        return text[:at] + chance.choice(signs) + text[at:]
+    if way == 1:
+        return text[:at] + text[at + 1:]
+    if way == 2:
+        return text[:at] + chance.choice(signs) + text[at + 1:]
+    return text[:at] + text[to:] + text[at:to]

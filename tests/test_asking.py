@@ -8,12 +8,19 @@ import unittest
 from deedsheaf.books import acts_of, deeds_of, is_book, is_entry, is_folk
 from deedsheaf.copies import first_way, parts_at, reaches_hold, reaches_of, says, ways_many
 from deedsheaf.courses import course_of, last_stand, learned_of
-from deedsheaf.errors import Missing, Named, NoAct, NoCopy, NoDay, NoDeed, NoDraft, NoEntry, NoForms, Twice
+from deedsheaf.desk import Desk
+from deedsheaf.errors import (Missing, Named, NoAct, NoAge, NoCopy, NoDay, NoDeed, NoDraft, NoEntry, NoFolk, NoForms,
+                              NoRow, NoSize, NoText, NothingDone, NoWords, Twice)
 from deedsheaf.folk import could_witness, faults_of, often_hands, turns_of
 from deedsheaf.late import late_of, parting_of, with_entry, without_entry
+from deedsheaf.lost import (clash_holds, first_clash, first_order, open_pages, order_fits, orders_many,
+                            settled_pages)
 from deedsheaf.reasons import act_paper, act_paper_holds, why_holds, why_of
+from deedsheaf.scribe import Scribe
 from deedsheaf.standing import all_standing, in_force, standing_of
-from tests.helper import (FOLK, NO_DAYS, ODD_THINGS, act, book, deed, random_book, shuffled, told_acts, told_deeds)
+from deedsheaf.texts import book_read, book_text
+from tests.helper import (FOLK, NO_DAYS, ODD_THINGS, act, book, deed, random_book, rising, shuffled, told_acts,
+                          told_deeds, told_text)
 
 # A deed of number 0 and an act of number 1, so that False and True would be taken for them by ==.
 SHEAF = book(deed(0, witnesses=(2, 4)), act(1, "void", 0, hand=1), act(2, "undone", 1, 20), deed(3, rests=(0,)))
@@ -21,12 +28,14 @@ RIGHT = {
     "book": SHEAF, "act": 1, "deed": 0, "d": 15, "k": 15, "thing": ("yes", 1, ()), "folk": FOLK,
     "entry": act(4, "void", 3, 10, 12), "number": 3, "other": book(deed(0, 11)),
     "forms": (("a", (("x",), ("x", "y"))),), "draft": ("a", "y"), "copy": ("x", "y"),
+    "size": 3, "words": (("not", 0, 0), ("ahead", 1, 2)), "text": told_text(SHEAF),
 }
 REFUSED = {
     "act": NoAct, "deed": NoDeed, "d": NoDay, "k": NoDay, "entry": NoEntry, "number": Missing,
-    "forms": NoForms, "draft": NoDraft, "copy": NoCopy,
+    "forms": NoForms, "draft": NoDraft, "copy": NoCopy, "size": NoSize, "words": NoWords, "text": NoText,
 }
 TEXTS = ("forms", "draft", "copy")
+LOST = ("size", "words")
 INTERFACE = {
     is_folk: ("thing",), is_entry: ("folk", "thing"), is_book: ("thing",), deeds_of: ("book",), acts_of: ("book",),
     in_force: ("book", "act", "d", "k"), standing_of: ("book", "deed", "d", "k"), all_standing: ("book", "d", "k"),
@@ -36,11 +45,19 @@ INTERFACE = {
     with_entry: ("book", "entry"), without_entry: ("book", "number"), parting_of: ("book", "other", "k"),
     late_of: ("book", "entry", "k"), faults_of: ("book",), could_witness: ("book", "d"), turns_of: ("book",),
     often_hands: ("book",), says: TEXTS, ways_many: TEXTS, first_way: TEXTS, reaches_of: TEXTS,
-    reaches_hold: (*TEXTS, "thing"), parts_at: TEXTS,
+    reaches_hold: (*TEXTS, "thing"), parts_at: TEXTS, orders_many: LOST, first_order: LOST, open_pages: LOST,
+    settled_pages: LOST, order_fits: (*LOST, "thing"), first_clash: LOST, clash_holds: (*LOST, "thing"),
+    book_text: ("book",), book_read: ("text",),
+}
+METHODS = {
+    Scribe: {"__init__": ("folk", "age"), "write": ("entry",), "tear": ("number",), "undo": (), "book": (),
+             "standing": ("deed", "d", "k"), "twin": (), "__len__": (), "__eq__": ("other",), "__repr__": (),
+             "__str__": ()},
+    Desk: {"__init__": (), "say": ("row",)},
 }
 K_LEFT_OUT = (in_force, standing_of, all_standing, act_paper, why_of, course_of, last_stand, parting_of, late_of)
 LISTS = (deeds_of, acts_of, course_of, learned_of, parting_of, late_of, faults_of, could_witness, turns_of,
-         often_hands, reaches_of)
+         often_hands, reaches_of, open_pages)
 NO_TEXTS = [thing for thing in ODD_THINGS if thing not in ((), ("yes",))]
 WRONG = {
     "act": [*ODD_THINGS, 0, 3, 4, 30, 31],
@@ -52,6 +69,9 @@ WRONG = {
     "forms": NO_TEXTS,
     "draft": NO_TEXTS,
     "copy": NO_TEXTS,
+    "size": [*ODD_THINGS, 0, 8],
+    "words": [thing for thing in ODD_THINGS if thing != ()],
+    "text": [*ODD_THINGS, told_text(SHEAF) + " "],
 }
 
 
@@ -68,7 +88,7 @@ class Refusals(unittest.TestCase):
     def test_of_several_wrong_arguments_the_left_one_is_refused(self):
         some = {"act": (True, [1], 0), "deed": (False, {}, 1), "d": (True, -1, [5]), "k": (None, 10000, {}),
                 "entry": (None, [], deed(31)), "forms": (None, [], ("a",)), "draft": ("a", [], (1,)),
-                "copy": ({}, ["a"], (None,))}
+                "copy": ({}, ["a"], (None,)), "size": (True, 8, [3]), "words": (None, [], (("at", 0),))}
         for tell, names in INTERFACE.items():
             checked = [name for name in names if name in some]
             for many in range(2, len(checked) + 1):
@@ -117,7 +137,8 @@ class Refusals(unittest.TestCase):
 
     def test_what_this_program_told_is_no_day_either(self):
         told = [why_of(SHEAF, 3, 15), act_paper(SHEAF, 1, 15), all_standing(SHEAF, 15), deeds_of(SHEAF),
-                course_of(SHEAF, 0), turns_of(SHEAF), reaches_of(*[RIGHT[name] for name in TEXTS])]
+                course_of(SHEAF, 0), turns_of(SHEAF), reaches_of(*[RIGHT[name] for name in TEXTS]),
+                open_pages(3, ()), settled_pages(3, ()), first_order(3, ()), repr(Scribe(FOLK, 14))]
         for thing in told:
             for tell, names in INTERFACE.items():
                 for name in [name for name in names if name in REFUSED]:
@@ -134,6 +155,29 @@ class Arguments(unittest.TestCase):
             for name in names:
                 left_out = 9999 if name == "k" and tell in K_LEFT_OUT else inspect.Parameter.empty
                 self.assertEqual(told[name].default, left_out)
+
+    def test_the_methods_of_the_interface(self):
+        for made, methods in METHODS.items():
+            for word, names in methods.items():
+                self.assertIn(word, vars(made))
+                told = inspect.signature(vars(made)[word]).parameters
+                self.assertEqual(tuple(told)[1:], names)
+                for name in names:
+                    self.assertEqual(told[name].default, 9999 if name == "k" else inspect.Parameter.empty)
+
+    def test_the_methods_by_names_and_by_places(self):
+        one, other = Scribe(FOLK, 14), Scribe(age=14, folk=FOLK)
+        for entry in (*rising(SHEAF)[2], RIGHT["entry"]):
+            one.write(entry)
+            other.write(entry=entry)
+        one.tear(4)
+        other.tear(number=4)
+        self.assertEqual((one.book(), other.book()), (rising(SHEAF), rising(SHEAF)))
+        for d, k in ((15, 15), (20, 20), (20, 9999), (15, 9)):
+            self.assertEqual(one.standing(0, d, k), other.standing(k=k, d=d, deed=0))
+            self.assertEqual(one.standing(0, d, k), standing_of(SHEAF, 0, d, k))
+            self.assertEqual(one.standing(0, d), other.standing(d=d, deed=0))
+        self.assertEqual(Desk().say("book"), Desk().say(row="book"))
 
     def test_by_names_in_whatever_order(self):
         for tell, names in INTERFACE.items():
@@ -207,6 +251,44 @@ class NothingChanged(unittest.TestCase):
             told.clear()
             self.assertEqual(tell(**asked), kept)
 
+    def test_open_pages_that_were_changed_are_told_again(self):
+        told = open_pages(3, (("at", 0, 0), ("not", 0, 0)))
+        told[0] = told[1] = (7,)
+        told.append(())
+        self.assertEqual(open_pages(3, (("at", 0, 0), ("not", 0, 0))), [(), (), ()])
+        self.assertEqual(settled_pages(3, (("at", 0, 0), ("not", 0, 0))), (None, None, None))
+
+    def test_objects_are_changed_by_their_own_deeds_alone(self):
+        scribe, desk = Scribe(FOLK, 14), Desk()
+        scribe.write(deed(0))
+        kept = scribe.book()
+        told = [str(scribe), repr(scribe), len(scribe), desk.say("book")]
+        for tell, names in INTERFACE.items():
+            tell(**{**{name: RIGHT[name] for name in names}, **({"book": kept} if names == ("book",) else {})})
+        with_entry(kept, deed(1))
+        without_entry(kept, 0)
+        Scribe(FOLK, 14).write(deed(5))
+        Desk().say("folk 3 0:- 0:-")
+        self.assertEqual([str(scribe), repr(scribe), len(scribe), desk.say("book")], told)
+        self.assertEqual(scribe.book(), kept)
+
+    def test_objects_that_refused_are_as_they_were(self):
+        scribe, desk = Scribe(FOLK, 14), Desk()
+        things = copy.deepcopy(ODD_THINGS)
+        for thing in things:
+            for error, tell in ((NoEntry, scribe.write), (Missing, scribe.tear), (NoRow, desk.say)):
+                with self.assertRaises(error):
+                    tell(thing)
+            with self.assertRaises(NoFolk):
+                Scribe(thing, thing)
+            with self.assertRaises(NoAge):
+                Scribe(FOLK, thing)
+        self.assertEqual(repr(things), repr(ODD_THINGS))
+        self.assertEqual((scribe.book(), desk.say("book")), ((FOLK, 14, ()), "folk 0:- ; age 0"))
+        for undo in (scribe.undo, lambda: desk.say("undo")):
+            with self.assertRaises(NothingDone):
+                undo()
+
     def test_told_reaches_that_were_changed_hold_no_more(self):
         asked = {name: RIGHT[name] for name in TEXTS}
         told = reaches_of(**asked)
@@ -277,6 +359,9 @@ class EntriesThatDoNotMatterYet(unittest.TestCase):
             for d, k in itertools.product((0, 2, 4), repeat=2):
                 told = all_told(sheaf, deeds, acts, d, k)
                 self.assertEqual(all_told(shuffled(sheaf, d), deeds, acts, d, k), told)
+            for tell, names in INTERFACE.items():
+                if names == ("book",) and tell != is_book:
+                    self.assertEqual(tell(shuffled(sheaf, 7)), tell(sheaf))
 
 
 if __name__ == "__main__":

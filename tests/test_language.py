@@ -42,6 +42,17 @@ def defined_names(source):
     return names
 
 
+def all_below(below, name):
+    """All names that are reached from a name, step by step."""
+    found, left = set(), list(below[name])
+    while left:
+        other = left.pop()
+        if other not in found:
+            found.add(other)
+            left.extend(below[other])
+    return found
+
+
 class Files(unittest.TestCase):
     def test_the_folder_has_python_files_alone(self):
         names = [path.name for path in FOLDER.iterdir() if path.name != "__pycache__"]
@@ -98,6 +109,38 @@ class Code(unittest.TestCase):
                 self.assertRegex(node.id, r"\A[A-Za-z]", name)
             if isinstance(node, ast.FunctionDef):
                 self.assertRegex(node.name, r"\A([A-Za-z]|__[a-z]+__\Z)", name)
+
+    def test_is_stands_beside_none_and_truths_alone(self):
+        for name, node in walked():
+            if isinstance(node, ast.Compare) and any(isinstance(op, (ast.Is, ast.IsNot)) for op in node.ops):
+                self.assertTrue(all(isinstance(side, ast.Constant) for side in node.comparators), name)
+
+    def test_no_percent_sign_and_no_escapes(self):
+        for name, source in sources().items():
+            self.assertNotIn("%", source, name)
+            self.assertRegex(source, r"\A(?:[^\\]|\\n)*\Z", name)
+
+    def test_nothing_of_pythons_own_is_caught(self):
+        for name, node in walked():
+            self.assertNotIsInstance(node, ast.Try, name)
+
+    def test_no_name_is_a_method_and_an_attribute(self):
+        methods, attributes = set(), set()
+        for name, node in walked():
+            if isinstance(node, ast.ClassDef):
+                methods.update(part.name for part in node.body if isinstance(part, ast.FunctionDef))
+            if isinstance(node, ast.Attribute) and isinstance(node.ctx, ast.Store):
+                attributes.add(node.attr)
+        self.assertIn("write", methods)
+        self.assertIn("at", attributes)
+        self.assertEqual(methods & attributes, set())
+
+    def test_no_two_files_import_from_each_other(self):
+        below = {name[:-3]: re.findall(r"(?m)^from deedsheaf\.([a-z]+) import", source)
+                 for name, source in sources().items()}
+
+        for name in below:
+            self.assertNotIn(name, all_below(below, name))
 
     def test_every_import_is_used(self):
         for name, source in sources().items():
